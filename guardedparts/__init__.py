@@ -1,0 +1,1 @@
+"""Protected parts of a tracked document."""
