@@ -1,6 +1,6 @@
 """The commands: the calls put, cut, paint and move."""
 
-from guardedparts.pieces import PARAGRAPH_END, PLAIN_LOOK, Piece, is_sign
+from guardedparts.pieces import PARAGRAPH_END, PLAIN_LOOK, Coat, Piece, having, is_sign
 from guardedparts.refusals import NO_PLACE, NO_RIGHT, OUT_OF_ORDER, OUT_OF_RANGE
 from guardedparts.rights import lacks_level, lacks_level_at_seam, needed_level, seam_parts, shared_tags
 from guardedparts.state import Change
@@ -11,16 +11,16 @@ PAINT = 3
 MOVE = 4
 
 
-def is_own(state, piece):
-    """Whether a piece is own."""
-    if not piece.insertions:
+def is_own(state, coat):
+    """Whether a piece with this coat is own."""
+    if not coat.insertions:
         return False
-    return state.changes[piece.insertions[-1] - 1].author == state.author
+    return state.changes[coat.insertions[-1] - 1].author == state.author
 
 
-def done_at_once(state, piece):
-    """Whether a command changes a piece without a trace."""
-    return not state.tracking or is_own(state, piece)
+def done_at_once(state, coat):
+    """Whether a command changes a piece with this coat without a trace."""
+    return not state.tracking or is_own(state, coat)
 
 
 def change_to_be(state):
@@ -47,13 +47,9 @@ def put(state, p, signs):
         return [NO_RIGHT]
     insertions = (change_to_be(state),) if state.tracking else ()
     tags = shared_tags(row, p) | seam_parts(row, p)
-    inner = look_within(row, p)
-    ending = look_of_end(row, p)
-    pieces = []
-    for sign in signs:
-        look = ending if sign == PARAGRAPH_END else inner
-        pieces.append(Piece(sign, look, insertions, tags))
-    row.set_in(p, pieces)
+    inner = row.numbered(Coat(look_within(row, p), insertions, (), (), tags))
+    ending = row.numbered(Coat(look_of_end(row, p), insertions, (), (), tags))
+    row.set_in(p, [Piece(sign, ending if sign == PARAGRAPH_END else inner) for sign in signs])
     return enter(state, PUT, state.tracking)
 
 
@@ -61,7 +57,7 @@ def look_within(row, p):
     """The own look of a new piece at place p that is no paragraph's end."""
     if p == 0 or row.shown[p - 1].sign == PARAGRAPH_END:
         return PLAIN_LOOK
-    return row.shown[p - 1].shown_look
+    return row.shown[p - 1].coat.shown_look
 
 
 def look_of_end(row, p):
@@ -69,7 +65,7 @@ def look_of_end(row, p):
     place = p
     while row.shown[place].sign != PARAGRAPH_END:
         place = place + 1
-    return row.shown[place].shown_look
+    return row.shown[place].coat.shown_look
 
 
 def cut(state, p, q):
@@ -80,14 +76,11 @@ def cut(state, p, q):
     stretch = row.shown[p:q]
     if lacks_level(state, stretch, needed_level(state)):
         return [NO_RIGHT]
-    marks = (change_to_be(state),)
-    borne = False
-    for piece in stretch:
-        if not done_at_once(state, piece):
-            piece.deletions = marks
-            borne = True
+    change = (change_to_be(state),)
+    staying = having(stretch, lambda coat: not done_at_once(state, coat))
+    row.recoat(staying, lambda coat: coat.with_deletions(change))
     row.take_out(p, q)
-    return enter(state, CUT, borne)
+    return enter(state, CUT, staying != [])
 
 
 def paint(state, p, q, k, v):
@@ -100,14 +93,18 @@ def paint(state, p, q, k, v):
     stretch = row.shown[p:q]
     if lacks_level(state, stretch, needed_level(state)):
         return [NO_RIGHT]
-    entry = (change_to_be(state), k, v)
-    borne = False
-    for piece in stretch:
-        if done_at_once(state, piece):
-            piece.paint_at_once(k, v)
-        elif piece.paint_tracked(entry):
-            borne = True
-    return enter(state, PAINT, borne)
+    entries = ((change_to_be(state), k, v),)
+    at_once = having(stretch, lambda coat: done_at_once(state, coat))
+    tracked = having(stretch, lambda coat: not done_at_once(state, coat) and coat.shown_look[k] != v)
+    row.recoat(at_once, lambda coat: painted(coat, k, v))
+    row.recoat(tracked, lambda coat: coat.with_looks(coat.look, coat.pending + entries))
+    return enter(state, PAINT, tracked != [])
+
+
+def painted(coat, k, v):
+    """A coat with v as its own look's property k, and no pending look that names k."""
+    look = coat.look[:k] + (v,) + coat.look[k + 1:]
+    return coat.with_looks(look, tuple([entry for entry in coat.pending if entry[1] != k]))
 
 
 def move(state, p, q, r):
@@ -116,22 +113,22 @@ def move(state, p, q, r):
     if refusal < 0:
         return [refusal]
     row = state.row
-    marks = (change_to_be(state),)
+    stretch = row.shown[p:q]
+    change = (change_to_be(state),)
     parts = seam_parts(row, r)
-    longer = {}
-    borne = False
-    coming = []
-    for piece in row.shown[p:q]:
-        if done_at_once(state, piece):
-            comer = piece
-        else:
-            comer = leave_copy(piece, marks, longer)
-            borne = True
-        comer.tags = comer.tags | parts
-        coming.append(comer)
+
+    def come_over(coat):
+        insertions = coat.insertions if done_at_once(state, coat) else coat.insertions + change
+        return coat.with_insertions(insertions).with_tags(coat.tags | parts)
+
+    former = [piece.coat for piece in stretch]
+    staying = having(stretch, lambda coat: not done_at_once(state, coat))
+    row.recoat(staying, lambda coat: coat.with_deletions(change))
+    coming = [Piece(piece.sign, coat) if piece.coat.deletions else piece for piece, coat in zip(stretch, former)]
+    row.recoat(coming, come_over)
     row.take_out(p, q)
     row.set_in(r if r < p else r - (q - p), coming)
-    return enter(state, MOVE, borne)
+    return enter(state, MOVE, staying != [])
 
 
 def move_refusal(state, p, q, r):
@@ -145,18 +142,3 @@ def move_refusal(state, p, q, r):
     if lacks_level(state, state.row.shown[p:q], level) or lacks_level_at_seam(state, r, level):
         return NO_RIGHT
     return 0
-
-
-def leave_copy(piece, marks, longer):
-    """Mark a piece as moved away; answer the copy that comes over for it.
-
-    marks is the list of the one change that moves. Many pieces have the same
-    insertions: longer keeps what each such list becomes, so that their copies
-    share it and a row of many long lists stays small.
-    """
-    if piece.insertions not in longer:
-        longer[piece.insertions] = piece.insertions + marks
-    comer = piece.twin()
-    comer.insertions = longer[piece.insertions]
-    piece.deletions = marks
-    return comer

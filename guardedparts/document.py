@@ -1,15 +1,17 @@
 """A line of calls on one object, as a list of whole numbers, and its answers."""
 
 from guardedparts.commands import cut, move, paint, put
-from guardedparts.guarding import dissolve, grant, guard, others, revoke
-from guardedparts.noting import notes
+from guardedparts.deciding import accept, reject
+from guardedparts.guarding import dissolve, grant, guard, others, revoke, transfer
+from guardedparts.noting import note, notes, unnote
 from guardedparts.settings import author, clock, track
 from guardedparts.state import State
+from guardedparts.telling import tell_change, tell_level, tell_part, tell_right, tell_row, tell_text
 
 PUT_CALL = 3
 
 # How many numbers stand behind each call's own; the signs of put come besides.
-WIDTHS = {0: 1, 1: 1, 2: 1, 3: 2, 4: 2, 5: 4, 6: 3, 7: 3, 8: 1, 9: 2, 10: 4, 11: 2, 23: 0}
+WIDTHS = (1, 1, 1, 2, 2, 4, 3, 3, 1, 2, 4, 2, 2, 1, 1, 2, 1, 2, 2, 1, 0, 1, 1, 0)
 
 
 def answers(calls):
@@ -33,8 +35,6 @@ def answers_on(state, calls):
 def call_end(calls, start):
     """Where the call ends that begins at start."""
     number = calls[start]
-    if number not in WIDTHS:
-        raise NotImplementedError(f"call {number}")
     end = start + 1 + WIDTHS[number]
     if number == PUT_CALL:
         end = end + calls[end - 1]
@@ -47,9 +47,11 @@ def answer_to(state, number, given):
         return answer_to_setting(state, number, given)
     if number <= 6:
         return answer_to_command(state, number, given)
-    if number <= 11:
+    if number <= 12:
         return answer_to_guarding(state, number, given)
-    return notes(state)
+    if number <= 16:
+        return answer_to_deciding(state, number, given)
+    return answer_to_question(state, number, given)
 
 
 def answer_to_setting(state, number, given):
@@ -73,7 +75,7 @@ def answer_to_command(state, number, given):
 
 
 def answer_to_guarding(state, number, given):
-    """The answer to guard, dissolve, others, grant or revoke."""
+    """The answer to guard, dissolve, others, grant, revoke or transfer."""
     if number == 7:
         return guard(state, given[0], given[1], given[2])
     if number == 8:
@@ -82,4 +84,34 @@ def answer_to_guarding(state, number, given):
         return others(state, given[0], given[1])
     if number == 10:
         return grant(state, given[0], given[1], given[2], given[3])
-    return revoke(state, given[0], given[1])
+    if number == 11:
+        return revoke(state, given[0], given[1])
+    return transfer(state, given[0], given[1])
+
+
+def answer_to_deciding(state, number, given):
+    """The answer to accept, reject, note or unnote."""
+    if number == 13:
+        return accept(state, given[0])
+    if number == 14:
+        return reject(state, given[0])
+    if number == 15:
+        return note(state, given[0], given[1])
+    return unnote(state, given[0])
+
+
+def answer_to_question(state, number, given):
+    """The answer to right, level, part, row, text, change or notes."""
+    if number == 17:
+        return tell_right(state, given[0], given[1])
+    if number == 18:
+        return tell_level(state, given[0], given[1])
+    if number == 19:
+        return tell_part(state, given[0])
+    if number == 20:
+        return tell_row(state)
+    if number == 21:
+        return tell_text(state, given[0])
+    if number == 22:
+        return tell_change(state, given[0])
+    return notes(state)

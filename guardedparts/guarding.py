@@ -1,8 +1,9 @@
-"""The calls on parts: guard, dissolve, others, grant and revoke."""
+"""The calls on parts: guard, dissolve, others, grant, revoke and transfer."""
 
-from guardedparts.parts import MOST_PARTS, Grant, Part
+from guardedparts.parts import Grant, Part
 from guardedparts.refusals import ALL_MADE, NO_GRANT, NO_PLACE, NO_RIGHT, NOT_THERE, OUT_OF_ORDER, OUT_OF_RANGE
-from guardedparts.rights import is_author, is_level, lacks_level, tag_bit
+from guardedparts.rights import is_author, is_level, lacks_level
+from guardedparts.tags import MOST_PARTS, tag_bit
 
 
 def guard(state, p, q, level):
@@ -18,9 +19,7 @@ def guard(state, p, q, level):
         return [ALL_MADE]
     t = len(state.parts) + 1
     state.parts[t] = Part(state.author, level)
-    bit = tag_bit(t)
-    for piece in row.span(p, q):
-        piece.tags = piece.tags | bit
+    row.tag(p, q, tag_bit(t))
     return [t]
 
 
@@ -32,11 +31,7 @@ def dissolve(state, t):
     if part.owner != state.author:
         return [NO_RIGHT]
     part.in_force = False
-    bit = tag_bit(t)
-    tagged = [piece for piece in state.row.pieces() if (piece.tags & bit) != 0]
-    for piece in tagged:
-        piece.tags = piece.tags - bit
-    return [len(tagged)]
+    return [state.row.untag(tag_bit(t))]
 
 
 def others(state, t, level):
@@ -92,3 +87,19 @@ def revoke(state, t, a):
         return [NO_RIGHT]
     part.grants.pop(a)
     return [1 + part.drop_groundless()]
+
+
+def transfer(state, t, a):
+    """Make author a the owner of part t."""
+    part = state.part_in_force(t)
+    if part is None:
+        return [NOT_THERE]
+    if not is_author(a):
+        return [OUT_OF_RANGE]
+    if part.owner != state.author:
+        return [NO_RIGHT]
+    if part.owner == a:
+        return [OUT_OF_ORDER]
+    part.hand_over(a)
+    part.drop_groundless()
+    return [len(part.grants)]

@@ -1,7 +1,5 @@
 """Parts, their grants, and the grounds that grants have."""
 
-MOST_PARTS = 500
-
 
 class Grant:
     """What an author may do in a part, and by whom that was given."""
@@ -38,6 +36,15 @@ class Part:
         if author == self.owner:
             return True
         return author in self.grants and self.grants[author].can_give(level)
+
+    def hand_over(self, author):
+        """Make an author the owner, without a grant; what the former owner gave counts as given by them."""
+        if author in self.grants:
+            self.grants.pop(author)
+        for held in self.grants.values():
+            if held.giver == self.owner:
+                held.giver = author
+        self.owner = author
 
     def drop_groundless(self):
         """Let the grants go that have no ground; answer how many went."""

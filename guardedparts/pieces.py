@@ -1,4 +1,4 @@
-"""The pieces of the row."""
+"""The pieces of the row, and their coats."""
 
 PARAGRAPH_END = 10
 PLAIN_LOOK = (0, 0, 0, 0)
@@ -9,51 +9,73 @@ def is_sign(number):
     return number == PARAGRAPH_END or 32 <= number <= 126
 
 
-def with_property(look, k, v):
-    """A look with v as its property k."""
-    return look[:k] + (v,) + look[k + 1:]
+def look_as_shown(look, pending):
+    """The look as shown of an own look with pending looks."""
+    shown = list(look)
+    for entry in pending:
+        shown[entry[1]] = entry[2]
+    return tuple(shown)
+
+
+class Coat:
+    """All that a piece has besides its sign.
+
+    A coat is never changed: where something changes in a piece, the piece
+    gets another coat. So the pieces that were treated alike share one, and
+    what a call makes of it, or asks of it, is worked out once for them all.
+    Its number, which the row gives it, tells it from the row's other coats.
+
+    The lists are tuples; a pending look is a tuple of its change, its
+    property and its value. The tags are one whole number, in which bit t is
+    set if t is among them: so they are rising and none twice by themselves.
+    """
+
+    def __init__(self, look, insertions, deletions, pending, tags):
+        self.number = 0
+        self.look = look
+        self.insertions = insertions
+        self.deletions = deletions
+        self.pending = pending
+        self.tags = tags
+        self.shown_look = look_as_shown(look, pending)
+
+    def bears(self, c):
+        """Whether change c is among the insertions, the deletions or in the pending looks."""
+        return c in self.insertions or c in self.deletions or c in [entry[0] for entry in self.pending]
+
+    def with_insertions(self, insertions):
+        """This coat with other insertions."""
+        return Coat(self.look, insertions, self.deletions, self.pending, self.tags)
+
+    def with_deletions(self, deletions):
+        """This coat with other deletions."""
+        return Coat(self.look, self.insertions, deletions, self.pending, self.tags)
+
+    def with_looks(self, look, pending):
+        """This coat with another own look and other pending looks."""
+        return Coat(look, self.insertions, self.deletions, pending, self.tags)
+
+    def with_tags(self, tags):
+        """This coat with other tags."""
+        return Coat(self.look, self.insertions, self.deletions, self.pending, tags)
 
 
 class Piece:
-    """A sign with its own look, the changes that it bears and its tags.
+    """A sign with its coat."""
 
-    The lists are tuples, so that a copy can share them with its original.
-    A pending look is a tuple of its change, its property and its value.
-    The look as shown is kept beside the pending looks, which may be many:
-    whatever changes the own look or the pending looks changes it too.
-    The tags are one whole number, in which bit t is set if t is among them:
-    so tags are rising and none twice by themselves, and what a long stretch
-    has in common with some parts is found without walking lists.
-    """
-
-    def __init__(self, sign, look, insertions, tags):
+    def __init__(self, sign, coat):
         self.sign = sign
-        self.look = look
-        self.insertions = insertions
-        self.deletions = ()
-        self.pending = ()
-        self.shown_look = look
-        self.tags = tags
+        self.coat = coat
 
-    def paint_at_once(self, k, v):
-        """Give the own look's property k the value v; no pending look names k then."""
-        self.pending = tuple([entry for entry in self.pending if entry[1] != k])
-        self.look = with_property(self.look, k, v)
-        self.shown_look = with_property(self.shown_look, k, v)
 
-    def paint_tracked(self, entry):
-        """Add a pending look, if that shows; answer whether it does."""
-        k = entry[1]
-        v = entry[2]
-        if self.shown_look[k] == v:
-            return False
-        self.pending = self.pending + (entry,)
-        self.shown_look = with_property(self.shown_look, k, v)
-        return True
-
-    def twin(self):
-        """A copy of this piece, which is shown."""
-        other = Piece(self.sign, self.look, self.insertions, self.tags)
-        other.pending = self.pending
-        other.shown_look = self.shown_look
-        return other
+def having(pieces, holds):
+    """Those of the pieces for whose coats something holds; it is asked once for each coat."""
+    known = {}
+    found = []
+    for piece in pieces:
+        number = piece.coat.number
+        if number not in known:
+            known[number] = holds(piece.coat)
+        if known[number]:
+            found.append(piece)
+    return found

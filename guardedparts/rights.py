@@ -1,6 +1,6 @@
 """Who may do what where."""
 
-from guardedparts.parts import MOST_PARTS
+from guardedparts.tags import parts_among, tag_bit, tag_list
 
 
 def is_author(number):
@@ -13,21 +13,11 @@ def is_level(number):
     return 0 <= number <= 3
 
 
-def tag_bit(tag):
-    """The tags that are this tag alone."""
-    return 1 << tag
-
-
-def parts_among(tags):
-    """The parts among tags, the notes left out."""
-    return tags & ((1 << (MOST_PARTS + 1)) - 1)
-
-
 def shared_tags(row, p):
     """The tags that the shown pieces at the places p - 1 and p both have."""
     if p == 0:
         return 0
-    return row.shown[p - 1].tags & row.shown[p].tags
+    return row.shown[p - 1].coat.tags & row.shown[p].coat.tags
 
 
 def seam_parts(row, p):
@@ -35,8 +25,13 @@ def seam_parts(row, p):
     parts = shared_tags(row, p)
     before = row.before(p)
     if before is not None:
-        parts = parts | (before.tags & row.shown[p].tags)
+        parts = parts | (before.coat.tags & row.shown[p].coat.tags)
     return parts_among(parts)
+
+
+def least_level(state, author, tags):
+    """The least of an author's levels in the parts among the tags; 3 if there are none."""
+    return min([3] + [state.parts[t].level_of(author) for t in tag_list(parts_among(tags))])
 
 
 def needed_level(state):
@@ -56,9 +51,9 @@ def parts_below(state, level):
 def lacks_level(state, pieces, level):
     """Whether the level of the author of the moment is less than this one upon some of the pieces."""
     below = parts_below(state, level)
-    return any([(piece.tags & below) != 0 for piece in pieces])
+    return any([(piece.coat.tags & below) != 0 for piece in pieces])
 
 
 def lacks_level_at_seam(state, p, level):
     """Whether the level of the author of the moment at the seam p is less than this one."""
-    return (seam_parts(state.row, p) & parts_below(state, level)) != 0
+    return least_level(state, state.author, seam_parts(state.row, p)) < level

@@ -1,6 +1,6 @@
 """The row of pieces."""
 
-from guardedparts.pieces import PARAGRAPH_END, PLAIN_LOOK, Piece
+from guardedparts.pieces import PARAGRAPH_END, PLAIN_LOOK, Coat, Piece, having
 
 
 class Row:
@@ -14,8 +14,34 @@ class Row:
     """
 
     def __init__(self):
-        self.shown = [Piece(PARAGRAPH_END, PLAIN_LOOK, (), 0)]
+        self.coats_made = 0
+        self.shown = [Piece(PARAGRAPH_END, self.numbered(Coat(PLAIN_LOOK, (), (), (), 0)))]
         self.gaps = [[]]
+
+    def numbered(self, coat):
+        """A new coat, with its number."""
+        self.coats_made = self.coats_made + 1
+        coat.number = self.coats_made
+        return coat
+
+    def recoat(self, pieces, remade):
+        """Give each of the pieces the new coat that is remade from the one it has."""
+        made = {}
+        for piece in pieces:
+            number = piece.coat.number
+            if number not in made:
+                made[number] = self.numbered(remade(piece.coat))
+            piece.coat = made[number]
+
+    def tag(self, p, q, bit):
+        """Give a tag to the span from place p to place q - 1."""
+        self.recoat(self.span(p, q), lambda coat: coat.with_tags(coat.tags | bit))
+
+    def untag(self, bit):
+        """Take a tag from all pieces; answer how many had it."""
+        tagged = having(self.pieces(), lambda coat: (coat.tags & bit) != 0)
+        self.recoat(tagged, lambda coat: coat.with_tags(coat.tags - bit))
+        return len(tagged)
 
     def before(self, p):
         """The piece directly before the shown piece at place p, shown or not; None if there is none."""
@@ -39,11 +65,26 @@ class Row:
         gap = []
         for k in range(p, q):
             gap.extend(self.gaps[k])
-            if self.shown[k].deletions:
+            if self.shown[k].coat.deletions:
                 gap.append(self.shown[k])
         gap.extend(self.gaps[q])
         self.gaps = self.gaps[:p] + [gap] + self.gaps[q + 1:]
         self.shown = self.shown[:p] + self.shown[q:]
+
+    def keep(self, holds):
+        """Let the pieces go for whose coats something does not hold; show those that have no deletions by now."""
+        shown = []
+        gaps = []
+        gap = []
+        for piece in having(self.pieces(), holds):
+            if piece.coat.deletions:
+                gap.append(piece)
+            else:
+                shown.append(piece)
+                gaps.append(gap)
+                gap = []
+        self.shown = shown
+        self.gaps = gaps
 
     def span(self, p, q):
         """The pieces from the shown one at place p to the shown one at place q - 1, those between not shown too."""
@@ -56,3 +97,15 @@ class Row:
     def pieces(self):
         """All pieces of the row."""
         return self.gaps[0] + self.span(0, len(self.shown))
+
+    def worn(self):
+        """The coats that pieces of the row have, each in a tuple with how many have it."""
+        coats = {}
+        counts = {}
+        for piece in self.pieces():
+            number = piece.coat.number
+            if number not in counts:
+                coats[number] = piece.coat
+                counts[number] = 0
+            counts[number] = counts[number] + 1
+        return [(coat, counts[number]) for number, coat in coats.items()]

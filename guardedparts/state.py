@@ -17,7 +17,8 @@ class State:
 
     Change c is changes[c - 1]; parts are kept by their numbers, also those no
     longer in force; of the notes that are not gone, their authors are kept by
-    the notes' numbers, in rising order.
+    the notes' numbers, in rising order. How many notes were made, also those
+    that are gone, is counted besides.
     """
 
     def __init__(self):
@@ -28,6 +29,11 @@ class State:
         self.changes = []
         self.parts = {}
         self.notes = {}
+        self.notes_made = 0
+
+    def has_change(self, c):
+        """Whether c is a change that was entered."""
+        return 1 <= c <= len(self.changes)
 
     def part_in_force(self, t):
         """Part t, or None if there is no part t in force."""

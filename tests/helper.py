@@ -7,7 +7,9 @@ from guardedparts.state import State
 
 NUMBERS = {
     "author": 0, "clock": 1, "track": 2, "put": 3, "cut": 4, "paint": 5, "move": 6, "guard": 7,
-    "dissolve": 8, "others": 9, "grant": 10, "revoke": 11, "notes": 23,
+    "dissolve": 8, "others": 9, "grant": 10, "revoke": 11, "transfer": 12, "accept": 13, "reject": 14,
+    "note": 15, "unnote": 16, "right": 17, "level": 18, "part": 19, "row": 20, "text": 21, "change": 22,
+    "notes": 23,
 }
 
 FAR = 10 ** 18
@@ -37,9 +39,23 @@ def apart(told):
     return found
 
 
-def tag_list(tags):
-    """The tags of a piece as a rising list."""
-    return [tag for tag in range(tags.bit_length()) if tags >> tag & 1]
+def row_apart(told):
+    """The pieces that row tells, each a tuple: sign, own look, insertions, deletions, pending looks, tags."""
+    pieces = []
+    at = 1
+    while at < len(told):
+        lists = []
+        sign, look = told[at], told[at + 1:at + 5]
+        at += 5
+        for width in (1, 1, 3, 1):
+            end = at + 1 + told[at] * width
+            lists.append(told[at + 1:end])
+            at = end
+        insertions, deletions, numbers, tags = lists
+        pending = [numbers[k:k + 3] for k in range(0, len(numbers), 3)]
+        pieces.append((sign, look, insertions, deletions, pending, tags))
+    assert (len(pieces), at) == (told[0], len(told))
+    return pieces
 
 
 class Desk:
@@ -61,12 +77,13 @@ class Desk:
         return found[0]
 
     def pieces(self):
-        """All pieces of the row, as plain values."""
-        return [
-            (piece.sign, list(piece.look), list(piece.insertions), list(piece.deletions),
-             [list(entry) for entry in piece.pending], tag_list(piece.tags))
-            for piece in self.state.row.pieces()
-        ]
+        """All pieces of the row, as row tells them."""
+        return row_apart(answers_on(self.state, [20])[1:])
+
+    def looks(self):
+        """The looks as shown of the shown pieces, as text tells them."""
+        told = answers_on(self.state, [21, 1])[1:]
+        return [told[at + 1:at + 5] for at in range(1, len(told), 5)]
 
     def row_text(self):
         """The signs of the row; those not shown in brackets; the last end left out."""
@@ -92,7 +109,7 @@ class Desk:
             [(change.author, change.time, change.kind) for change in state.changes],
             self.pieces(),
             [(t, part.in_force, part.owner, part.others, self.grants(t)) for t, part in state.parts.items()],
-            dict(state.notes),
+            state.notes_made, dict(state.notes),
         )
 
 
@@ -109,11 +126,17 @@ class DeskCase(unittest.TestCase):
             self.assertEqual(handed, self.desk.calls)
 
     def do(self, answer, name, *given):
-        """Do a call and hold its answer, one number, against what is asked for."""
-        self.assertEqual(self.desk.do(name, *given), [answer], (name,) + given)
+        """Do a call and hold its answer, a number or a list of them, against what is asked for."""
+        want = answer if isinstance(answer, list) else [answer]
+        self.assertEqual(self.desk.do(name, *given), want, (name,) + given)
 
-    def refused(self, answer, name, *given):
-        """Do a call that is refused; everything stays as it was."""
+    def tells(self, answer, name, *given):
+        """Do a call that only tells; everything stays as it was."""
         before = self.desk.kept()
         self.do(answer, name, *given)
         self.assertEqual(self.desk.kept(), before, (name,) + given)
+
+    def refused(self, answer, name, *given):
+        """Do a call that is refused; everything stays as it was."""
+        self.assertLess(answer, 0)
+        self.tells(answer, name, *given)

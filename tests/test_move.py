@@ -156,9 +156,8 @@ class Parts(DeskCase):
         self.assertEqual(self.desk.column(5), [[], [], [], [1], [1], [1], [], []])
 
     def test_notes_of_the_seam_are_not_added(self):
-        for piece in self.desk.state.row.shown[3:5]:
-            piece.tags = 1 << 501
-        self.desk.state.row.shown[0].tags = 1 << 502
+        self.do(1, "note", 3, 5)
+        self.do(2, "note", 0, 1)
         self.do(0, "move", 0, 1, 4)
         self.assertEqual(self.desk.column(5), [[], [], [501], [502], [501], [], []])
 

@@ -229,19 +229,16 @@ class Tags(DeskCase):
 
     def test_notes_of_both_shown_neighbours(self):
         self.do(0, "put", 0, "abc")
-        pieces = self.desk.state.row.shown
-        pieces[0].tags = 1 << 501
-        pieces[1].tags = 1 << 501 | 1 << 999
-        pieces[2].tags = 1 << 999
+        self.do(1, "note", 0, 2)
+        self.do(2, "note", 1, 3)
         self.do(0, "put", 1, "x")
         self.do(0, "put", 3, "y")
-        self.assertEqual(self.desk.column(5), [[501], [501], [501, 999], [999], [999], []])
+        self.assertEqual(self.desk.column(5), [[501], [501], [501, 502], [502], [502], []])
 
     def test_no_notes_of_pieces_not_shown(self):
         self.do(0, "put", 0, "abc")
         self.do(1, "guard", 0, 3, 0)
-        for piece in self.desk.state.row.shown[1:3]:
-            piece.tags |= 1 << 501
+        self.do(1, "note", 1, 3)
         self.do(0, "track", 1)
         self.do(1, "cut", 1, 2)
         self.do(2, "put", 1, "x")

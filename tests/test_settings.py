@@ -9,7 +9,7 @@ class Beginning(DeskCase):
     def test_new_object(self):
         self.assertEqual(
             self.desk.kept(),
-            (1, 0, False, [], [(10, [0, 0, 0, 0], [], [], [], [])], [], {}),
+            (1, 0, False, [], [(10, [0, 0, 0, 0], [], [], [], [])], [], 0, {}),
         )
 
 
