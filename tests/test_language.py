@@ -178,6 +178,23 @@ class Language(unittest.TestCase):
         for name, node in self.nodes(ast.Attribute):
             self.assertIn(node.attr, methods | values | set(METHODS), (name, node.lineno))
 
+    def test_walked_at_once(self):
+        walked = set()
+        for name, node in self.nodes(ast.For, ast.comprehension):
+            walked.add(node.iter)
+        for name, node in self.nodes(ast.Call):
+            called = getattr(node.func, "id", "")
+            if called in ("list", "tuple", "dict", "sorted", "sum", "any", "all", "enumerate", "zip", "min", "max"):
+                walked.update(node.args)
+        for name, node in self.nodes(ast.Call):
+            called = getattr(node.func, "id", getattr(node.func, "attr", ""))
+            if called in ("zip", "enumerate", "reversed", "range", "items", "keys", "values"):
+                self.assertIn(node, walked, (name, node.lineno))
+
+    def test_lambdas_on_lines_of_their_own(self):
+        lines = [(name, node.lineno) for name, node in self.nodes(ast.Lambda)]
+        self.assertEqual(len(lines), len(set(lines)))
+
     def test_is_beside_none_alone(self):
         for name, node in self.nodes(ast.Compare):
             for op, right in zip(node.ops, node.comparators):

@@ -267,6 +267,23 @@ class RightsAndRefusals(DeskCase):
         self.refused(-9, "accept", 1)
         self.do(2, "reject", 1)
 
+    def test_own_among_changes_of_others(self):
+        """The author is asked of change c itself, not of one beside it."""
+        self.do(0, "put", 0, "abcd")
+        self.do(1, "guard", 0, 4, 2)
+        self.do(0, "track", 1)
+        for c, a in ((1, 3), (2, 2), (3, 2), (4, 3)):
+            self.do(0, "author", a)
+            self.do(c, "paint", c - 1, c, 0, 5)
+        self.do(0, "author", 2)
+        self.refused(-9, "reject", 1)
+        self.refused(-9, "reject", 4)
+        self.do(1, "reject", 2)
+        self.do(1, "reject", 3)
+        self.do(0, "author", 3)
+        self.do(1, "reject", 1)
+        self.do(1, "reject", 4)
+
     def test_pieces_not_shown_count(self):
         self.do(0, "put", 0, "ab")
         self.do(1, "guard", 0, 1, 2)
